@@ -5,6 +5,7 @@ import (
 	"strconv"
 
 	"primer/api"
+	"primer/nodes"
 	"primer/symbols"
 	"primer/syntax"
 )
@@ -45,7 +46,7 @@ func (m *maker) add(name string, n syntax.Node, home int) {
 func (m *maker) produce(left int) {
 	n := m.nodes[left]
 	if left < m.made.Rules || n.Kind == syntax.Seq || n.Kind == syntax.Alt {
-		for _, row := range rows(n) {
+		for _, row := range nodes.Rows(n) {
 			m.put(left, m.right(left, row))
 		}
 		return
@@ -58,7 +59,7 @@ func (m *maker) repeat(left int, n syntax.Node) {
 	if n.Kind == syntax.Star {
 		m.put(left, nil)
 	}
-	for _, row := range rows(n.Kids[0]) {
+	for _, row := range nodes.Rows(n.Kids[0]) {
 		right := m.right(left, row)
 		if n.Kind != syntax.Star {
 			m.put(left, right)
@@ -87,7 +88,7 @@ func (m *maker) right(left int, row syntax.Node) []int {
 		return nil
 	}
 	var right []int
-	for _, item := range items(row) {
+	for _, item := range nodes.Items(row) {
 		right = append(right, m.symbol(item, m.homes[left]))
 	}
 	return right
@@ -104,18 +105,4 @@ func (m *maker) symbol(item syntax.Node, home int) int {
 	m.counts[home]++
 	m.add(m.made.Names[home]+"."+strconv.Itoa(m.counts[home]), item, home)
 	return len(m.nodes) - 1
-}
-
-func rows(n syntax.Node) []syntax.Node {
-	if n.Kind == syntax.Alt {
-		return n.Kids
-	}
-	return []syntax.Node{n}
-}
-
-func items(row syntax.Node) []syntax.Node {
-	if row.Kind == syntax.Seq {
-		return row.Kids
-	}
-	return []syntax.Node{row}
 }
