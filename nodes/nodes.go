@@ -1,7 +1,14 @@
-// Package nodes tells what several layers ask of a rule's body: its rows, and a row's items. What it tells shares its lists with what it is given.
+// Package nodes tells what several layers ask of a rule's body: whether it is proper, its rows, and a row's items. What it tells shares its lists with what it is given.
 package nodes
 
 import "primer/syntax"
+
+// Proper: is a node?
+func Proper(n syntax.Node) bool {
+	// Layer 5 tells it of grammars alone, so the node is made one's only body.
+	alone := syntax.Grammar{Start: "a", Rules: []syntax.Rule{{Name: "a", Body: n}}}
+	return syntax.Proper(alone)
+}
 
 // Rows of a node.
 func Rows(n syntax.Node) []syntax.Node {

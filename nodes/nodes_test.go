@@ -40,3 +40,21 @@ func TestThereAndBack(t *testing.T) {
 		}
 	}
 }
+
+// TestProper: of a node by itself it is told as of a grammar's body.
+func TestProper(t *testing.T) {
+	x, none := syntax.Node{Kind: syntax.Lit, Text: "x"}, syntax.Node{}
+	for _, c := range []struct {
+		n    syntax.Node
+		want bool
+	}{
+		{x, true}, {none, false}, {syntax.Node{Kind: syntax.Ref, Text: "b-1"}, true}, {syntax.Node{Kind: syntax.Ref, Text: "1"}, false},
+		{syntax.Node{Kind: syntax.Seq}, true}, {syntax.Node{Kind: syntax.Alt}, false}, {syntax.Node{Kind: syntax.Seq, Kids: []syntax.Node{x}}, false},
+		{syntax.Node{Kind: syntax.Alt, Kids: []syntax.Node{x, x}}, true}, {syntax.Node{Kind: syntax.Star, Kids: []syntax.Node{x}}, true}, {syntax.Node{Kind: syntax.Star, Kids: []syntax.Node{none}}, false},
+	} {
+		g := syntax.Grammar{Start: "s", Rules: []syntax.Rule{{Name: "s", Body: c.n}, {Name: "t", Body: x}}}
+		if nodes.Proper(c.n) != c.want || syntax.Proper(g) != c.want {
+			t.Error(c.n, !c.want)
+		}
+	}
+}
